@@ -1,5 +1,7 @@
 package tests
 
+import "slices"
+
 // stringsOf returns every string of at most most pieces, the empty one included.
 func stringsOf(pieces []string, most int) []string {
 	all := []string{""}
@@ -9,6 +11,23 @@ func stringsOf(pieces []string, most int) []string {
 		for _, s := range last {
 			for _, p := range pieces {
 				next = append(next, s+p)
+			}
+		}
+		all = append(all, next...)
+		last = next
+	}
+	return all
+}
+
+// listsOf returns every list of at most most items, the empty one included; no two share memory.
+func listsOf[T any](items []T, most int) [][]T {
+	all := [][]T{nil}
+	last := all
+	for range most {
+		var next [][]T
+		for _, list := range last {
+			for _, item := range items {
+				next = append(next, append(slices.Clone(list), item))
 			}
 		}
 		all = append(all, next...)

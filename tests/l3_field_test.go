@@ -267,23 +267,6 @@ func TestP18AllShortLines(t *testing.T) {
 	}
 }
 
-// fieldLists returns every list of at most most of the fields.
-func fieldLists(fields []impl.FldField, most int) [][]impl.FldField {
-	all := [][]impl.FldField{nil}
-	last := all
-	for range most {
-		var next [][]impl.FldField
-		for _, list := range last {
-			for _, f := range fields {
-				next = append(next, append(list[:len(list):len(list)], f))
-			}
-		}
-		all = append(all, next...)
-		last = next
-	}
-	return all
-}
-
 func checkList(t *testing.T, list []impl.FldField, name string) {
 	t.Helper()
 	want := []string{}
@@ -308,7 +291,7 @@ func checkList(t *testing.T, list []impl.FldField, name string) {
 
 func TestP19AllFieldsOfAName(t *testing.T) {
 	pool := []impl.FldField{{Name: "a", Value: "1"}, {Name: "a", Value: "2"}, {Name: "b", Value: "1"}, {Name: "b", Value: ""}, {Name: "", Value: "3"}, {Name: "A", Value: "4"}}
-	for _, list := range fieldLists(pool, 5) {
+	for _, list := range listsOf(pool, 5) {
 		for _, name := range []string{"a", "b", "", "A", "c"} {
 			checkList(t, list, name)
 		}

@@ -348,7 +348,7 @@ func TestP24AllShortConfigurations(t *testing.T) {
 		for range all.houses {
 			var next []impl.CfgCfg
 			for _, c := range cfgs {
-				for _, names := range listsOfNames(all.names) {
+				for _, names := range listsOf(all.names, 3) {
 					next = append(next, cfgOf(append(slices.Clone(c.Houses), houseOf(names...))...))
 				}
 			}
@@ -365,23 +365,6 @@ func TestP24AllShortConfigurations(t *testing.T) {
 			}
 		}
 	}
-}
-
-// listsOfNames returns all lists of up to three names.
-func listsOfNames(names []string) [][]string {
-	lists := [][]string{nil}
-	last := lists
-	for range 3 {
-		var next [][]string
-		for _, list := range last {
-			for _, name := range names {
-				next = append(next, append(slices.Clone(list), name))
-			}
-		}
-		lists = append(lists, next...)
-		last = next
-	}
-	return lists
 }
 
 // chanceCfg puts a configuration together by chance, valid more often than not.
