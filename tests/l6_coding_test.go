@@ -208,11 +208,13 @@ func TestP29EveryByteOfAQuality(t *testing.T) {
 	}
 }
 
+// setTexts holds the text of every set.
+var setTexts = [8]string{"plain;q=0", "plain", "plain;q=0, gz", "plain, gz", "plain;q=0, br", "plain, br", "plain;q=0, gz, br", "plain, gz, br"}
+
 func TestP26SetsReadBack(t *testing.T) {
-	texts := []string{"plain;q=0", "plain", "plain;q=0, gz", "plain, gz", "plain;q=0, br", "plain, br", "plain;q=0, gz, br", "plain, gz, br"}
 	for mask := range 8 {
 		text := impl.CodText(mask)
-		if text != texts[mask] {
+		if text != setTexts[mask] {
 			t.Fatalf("CodText(%d) is %q", mask, text)
 		}
 		list, ok := impl.CodParse(text)
