@@ -85,6 +85,10 @@ func (t text) fresh() string {
 	return strings.Clone(string(t))
 }
 
+func numOk(n int) bool {
+	return n >= 0 && n <= NumMax
+}
+
 // TokOk says whether a text is a name.
 func TokOk(s string) bool {
 	return len(s) >= 1 && len(s) <= TokMax && text(s).only(classToken)
@@ -92,7 +96,7 @@ func TokOk(s string) bool {
 
 // NumText writes a number.
 func NumText(n int) string {
-	if n < 0 || n > NumMax {
+	if !numOk(n) {
 		return ""
 	}
 	return strconv.Itoa(n)
