@@ -91,13 +91,16 @@ func TestP10NumbersOutOfRange(t *testing.T) {
 	}
 }
 
-func TestP10NotNumbers(t *testing.T) {
-	list := []string{
+func notNumbers() []string {
+	return []string{
 		"", "00", "01", "007", "000000", "0000001", "+1", "-1", "-0", "+0", " 1", "1 ", "1\n", "\t1", "1.0", "1e3", "0x1", "0b1", "0o7",
 		"1_0", "1,000", "1-", "a", "1a", "a1", "1000000", "9999990", "18446744073709551616", "18446744073709551617", "4294967297",
 		strings.Repeat("0", 500) + "1", strings.Repeat("9", 500), "\x00", "1\x00", "１", "٣", "½", "-", "+",
 	}
-	for _, s := range list {
+}
+
+func TestP10NotNumbers(t *testing.T) {
+	for _, s := range notNumbers() {
 		if n, ok := impl.NumRead(s); n != 0 || ok {
 			t.Fatalf("NumRead(%q) is %d, %v", s, n, ok)
 		}
